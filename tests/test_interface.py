@@ -1,0 +1,81 @@
+"""The interface: each name stands in its file, each listed method in its class, with the listed arguments."""
+
+import importlib
+import inspect
+import unittest
+
+FUNCTIONS = {
+    'values': {'is_value': 'thing', 'kind_of': 'value', 'depth_of': 'value', 'is_before': 'one other'},
+    'places': {'is_place': 'thing', 'value_at': 'inputs place', 'with_part': 'inputs place value'},
+    'runner': {'plain': 'book body given *rule'},
+}
+CLASSES = {
+    'values': {'Fault': ('word rule path', '__eq__ __str__ __repr__')},
+    'terms': {
+        'Term': (None, ''),
+        'Literal': ('value', '__call__ __eq__ __str__'), 'Whole': ('place', '__call__ __eq__ __str__'),
+        'Shifted': ('place by', '__call__ __eq__ __str__'), 'Built': ('parts', '__call__ __eq__ __str__')},
+    'kindsets': {'Kinds': (None, 'everything present of sized __and__ __or__ __sub__ __contains__ __eq__ __bool__ '
+                                 '__str__ only size least within')},
+    'regions': {'Region': ('words', '__contains__ __bool__ __and__ __sub__ __eq__ words least within kinds with_word '
+                                    'implies written distinguish substituted')},
+    'clauses': {'Clause': ('notes result', '__contains__ __call__ __eq__')},
+    'errors': {name: (None, '') for name in (
+        'LoreError NoText NoBook NoSheet NoWord NoNote NoInput TooMany TooBig NoPlace NoCell').split()},
+    'trees': {'Book': ('definitions', '__len__ __getitem__ __eq__')},
+}
+METHODS = {
+    ('kindsets', 'Kinds'): {'everything': '', 'present': '', 'of': 'word', 'sized': 'k', 'within': 'self other'},
+    ('regions', 'Region'): {
+        'within': 'self other', 'kinds': 'self p', 'with_word': 'self word', 'implies': 'self word',
+        'written': 'self term', 'distinguish': 'self one other', 'substituted': 'self name result base'},
+    ('terms', 'Literal'): {'__call__': 'self inputs'},
+    ('terms', 'Whole'): {'__call__': 'self inputs'},
+    ('terms', 'Shifted'): {'__call__': 'self inputs'},
+    ('terms', 'Built'): {'__call__': 'self inputs'},
+    ('clauses', 'Clause'): {'__call__': 'self inputs'},
+}
+
+
+def module(name):
+    return importlib.import_module('runlore.' + name)
+
+
+def arguments(thing):
+    parameters = inspect.signature(thing).parameters.values()
+    return ' '.join(('*' if one.kind is one.KEYWORD_ONLY else '') + one.name for one in parameters)
+
+
+class InterfaceTest(unittest.TestCase):
+    def test_functions(self):
+        for name, listed in FUNCTIONS.items():
+            for word, shape in listed.items():
+                function = getattr(module(name), word)
+                self.assertEqual(function.__module__, 'runlore.' + name)
+                self.assertEqual(arguments(function), shape, word)
+
+    def test_classes(self):
+        for name, listed in CLASSES.items():
+            for word, (shape, methods) in listed.items():
+                kind = getattr(module(name), word)
+                self.assertEqual(kind.__module__, 'runlore.' + name)
+                if shape is not None:
+                    self.assertEqual(arguments(kind), shape, word)
+                for method in methods.split():
+                    self.assertIn(method, vars(kind), (word, method))
+
+    def test_methods(self):
+        for (name, word), listed in METHODS.items():
+            kind = getattr(module(name), word)
+            for method, shape in listed.items():
+                self.assertEqual(arguments(getattr(kind, method)), shape, (word, method))
+
+    def test_defaults(self):
+        self.assertEqual(inspect.signature(module('runner').plain).parameters['rule'].default, '')
+        self.assertEqual(inspect.signature(module('regions').Region).parameters['words'].default, ())
+        shape = inspect.signature(module('values').Fault).parameters
+        self.assertEqual((shape['rule'].default, shape['path'].default), ('', ()))
+
+
+if __name__ == '__main__':
+    unittest.main()

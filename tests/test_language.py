@@ -1,0 +1,340 @@
+"""The package against those rules of LANGUAGE.md that a look at its trees can tell."""
+
+import ast
+import builtins
+import keyword
+import pathlib
+import re
+import unittest
+
+PACKAGE = pathlib.Path(__file__).resolve().parent.parent / 'runlore'
+FILES = {path.stem: path.read_text() for path in sorted(PACKAGE.glob('*.py'))}
+TREES = {name: ast.parse(text) for name, text in FILES.items()}
+
+LIBRARY = {
+    'heapq': ('heappush', 'heappop', 'heapify', 'heapreplace', 'heappushpop'),
+    'math': ('gcd', 'lcm', 'isqrt', 'comb', 'perm', 'factorial'),
+    'itertools': ('product', 'combinations', 'permutations')}
+BUILTINS = (
+    'len range enumerate zip min max sum abs sorted reversed int str bool bytes list tuple dict set frozenset '
+    'isinstance ord repr any all divmod iter next map Exception ValueError TypeError KeyError IndexError LookupError '
+    'ZeroDivisionError ArithmeticError OverflowError RuntimeError NotImplementedError AttributeError StopIteration '
+    'NotImplemented super property staticmethod classmethod True False None').split()
+METHODS = (
+    'append clear copy count endswith extend find get index insert isalnum isalpha isdigit islower isspace isupper '
+    'items join keys ljust lower lstrip partition pop remove replace reverse rfind rjust rpartition rsplit rstrip '
+    'setdefault split splitlines startswith strip update upper values zfill bit_length').split()
+MODIFYING = ('append', 'clear', 'extend', 'insert', 'pop', 'remove', 'reverse', 'setdefault', 'update', 'sort')
+NOWHERE = ('register', 'mro', 'elements', 'open', 'input', 'law', 'version_info', 'with_traceback', 'add_note')
+BARRED_WORDS = (
+    'type typing typing_extensions enum Enum IntEnum StrEnum Flag IntFlag Generic Protocol ABC ABCMeta namedtuple '
+    'NamedTuple TypedDict TYPE_CHECKING abstractmethod').split()
+NOT_NAMES = (
+    'attrgetter breakpoint builtins compile copyright credits delattr dir eval exec exit gc getattr globals hasattr '
+    'help id importlib license locals methodcaller os quit setattr super type vars sys').split()
+SPECIAL = (
+    '__init__ __eq__ __repr__ __str__ __len__ __enter__ __exit__ __call__ __iter__ __ne__ __lt__ __le__ __gt__ __ge__ '
+    '__add__ __sub__ __mul__ __floordiv__ __mod__ __pow__ __and__ __or__ __xor__ __lshift__ __rshift__ __neg__ '
+    '__pos__ __invert__ __abs__ __bool__ __contains__ __getitem__ __setitem__').split()
+PURE = [name for name in SPECIAL if name not in ('__init__', '__enter__', '__exit__', '__call__', '__setitem__')]
+AT_ONCE = ('range', 'zip', 'enumerate', 'reversed')
+TAKERS = ('list', 'tuple', 'dict', 'sorted', 'sum', 'any', 'all', 'enumerate', 'zip', 'bytes', 'min', 'max', 'len')
+
+
+def nodes(kind):
+    for name, tree in TREES.items():
+        for node in ast.walk(tree):
+            if isinstance(node, kind):
+                yield f'{name}:{getattr(node, "lineno", 0)}', node
+
+
+def parents(tree):
+    return {child: node for node in ast.walk(tree) for child in ast.iter_child_nodes(node)}
+
+
+def functions(tree):
+    """Pairs of a class (or None) and a function at module level or in a class."""
+    for node in tree.body:
+        if isinstance(node, ast.FunctionDef):
+            yield None, node
+        if isinstance(node, ast.ClassDef):
+            for inner in node.body:
+                if isinstance(inner, ast.FunctionDef):
+                    yield node, inner
+
+
+def decorators(function):
+    return [node.id for node in function.decorator_list]
+
+
+def locals_of(function):
+    names = {arg.arg for arg in ast.walk(function.args) if isinstance(arg, ast.arg)}
+    for node in ast.walk(function):
+        if isinstance(node, ast.Name) and isinstance(node.ctx, ast.Store):
+            names.add(node.id)
+        if isinstance(node, ast.arg):
+            names.add(node.arg)
+        if isinstance(node, ast.ExceptHandler) and node.name:
+            names.add(node.name)
+        if isinstance(node, ast.FunctionDef) and node is not function:
+            names.add(node.name)
+    return names
+
+
+class FormTest(unittest.TestCase):
+    def test_sizes_and_characters(self):
+        for name, text in FILES.items():
+            self.assertLessEqual(len(text.splitlines()), 399, name)
+            for at, line in enumerate(text.splitlines(), 1):
+                self.assertLessEqual(len(line), 120, f'{name}:{at}')
+                self.assertTrue(all(' ' <= letter <= '~' for letter in line), f'{name}:{at}')
+        for where, node in nodes(ast.FunctionDef):
+            self.assertLessEqual(node.end_lineno - node.lineno + 1, 40, where)
+
+    def test_imports(self):
+        reached = {}
+        for name, tree in TREES.items():
+            reached[name] = []
+            for node in ast.walk(tree):
+                self.assertNotIsInstance(node, ast.Import, name)
+                if not isinstance(node, ast.ImportFrom):
+                    continue
+                self.assertIn(node, tree.body)
+                if node.module in LIBRARY:
+                    self.assertTrue(all(alias.name in LIBRARY[node.module] for alias in node.names))
+                    continue
+                self.assertTrue(node.module.startswith('runlore.'), name)
+                other = node.module.split('.')[1]
+                reached[name].append(other)
+                own = {made.name for made in TREES[other].body if isinstance(made, (ast.FunctionDef, ast.ClassDef))}
+                own |= {made.targets[0].id for made in TREES[other].body if isinstance(made, ast.Assign)}
+                self.assertTrue(all(alias.name in own for alias in node.names), (name, other))
+        done = []
+        while len(done) < len(reached):
+            ready = [name for name in reached if name not in done and all(other in done for other in reached[name])]
+            self.assertTrue(ready, 'files import from one another in a ring')
+            done.extend(ready)
+
+    def test_imports_are_used(self):
+        for name, tree in TREES.items():
+            used = {node.id for node in ast.walk(tree) if isinstance(node, ast.Name)}
+            for node in tree.body:
+                if isinstance(node, ast.ImportFrom):
+                    self.assertTrue(all(alias.name in used for alias in node.names), (name, node.module))
+
+    def test_names(self):
+        for name, tree in TREES.items():
+            outer = {alias.name for node in tree.body if isinstance(node, ast.ImportFrom) for alias in node.names}
+            outer |= {node.name for node in tree.body if isinstance(node, ast.ClassDef)}
+            top = [node.name for node in tree.body if isinstance(node, (ast.FunctionDef, ast.ClassDef))]
+            self.assertEqual(len(top), len({*top}), name)
+            for one in top:
+                self.assertFalse(hasattr(builtins, one), (name, one))
+                self.assertNotIn(one, outer - {*top} | {*NOWHERE, *NOT_NAMES})
+            for holder, function in functions(tree):
+                for one in locals_of(function):
+                    self.assertNotIn(one, outer, (name, function.name))
+                    self.assertFalse(hasattr(builtins, one), (name, function.name, one))
+                    self.assertNotIn(one, NOWHERE + tuple(NOT_NAMES), (name, function.name))
+                    self.assertRegex(one, '^(_|_?[A-Za-z][A-Za-z0-9_]*)$')
+        for where, node in nodes(ast.Attribute):
+            self.assertNotIn(node.attr, NOWHERE, where)
+
+    def test_barred_words(self):
+        for where, node in nodes(ast.Constant):
+            if isinstance(node.value, str):
+                self.assertNotIn('%', node.value, where)
+        for name, text in FILES.items():
+            for word in re.findall('[A-Za-z_]+', re.sub('""".*?"""', '', text, flags=re.S)):
+                self.assertNotIn(word, BARRED_WORDS, name)
+            for word in ('(type)', 'Meta', 'metaclass=', 'dataclass', 'overload', 'contextmanager', '_wall'):
+                self.assertNotIn(word, text, name)
+
+    def test_constructs(self):
+        barred = (
+            ast.GeneratorExp, ast.Yield, ast.YieldFrom, ast.Set, ast.SetComp, ast.Lambda, ast.Global, ast.AsyncFunctionDef,
+            ast.Await, ast.AnnAssign, ast.Div, ast.Match, ast.NamedExpr, ast.MatMult)
+        for where, node in nodes(ast.AST):
+            self.assertNotIsInstance(node, barred, where)
+            if isinstance(node, ast.arg):
+                self.assertIsNone(node.annotation, where)
+            if isinstance(node, ast.FunctionDef):
+                self.assertIsNone(node.returns, where)
+            if isinstance(node, ast.Compare) and isinstance(node.ops[0], (ast.Is, ast.IsNot)):
+                self.assertIsInstance(node.comparators[0], ast.Constant, where)
+            if isinstance(node, ast.Constant):
+                self.assertNotIsInstance(node.value, (float, complex, bytes), where)
+            if isinstance(node, ast.ExceptHandler):
+                self.assertIsInstance(node.type, ast.Name, where)
+                self.assertNotIn(node.type.id, ('ValueError', 'LookupError', 'IndexError', 'Exception'), where)
+            if isinstance(node, ast.Name) and hasattr(builtins, node.id):
+                self.assertIn(node.id, BUILTINS, where)
+            if isinstance(node, ast.FunctionDef) and node.name.startswith('__'):
+                self.assertIn(node.name, SPECIAL, where)
+
+    def test_calls(self):
+        made = {node.name for _, node in nodes((ast.FunctionDef, ast.ClassDef))}
+        for where, node in nodes(ast.Call):
+            self.assertIsInstance(node.func, (ast.Name, ast.Attribute), where)
+            starred = [arg for arg in node.args if isinstance(arg, ast.Starred)]
+            self.assertFalse([arg for arg in starred if isinstance(arg.value, ast.Call)], where)
+            if isinstance(node.func, ast.Attribute):
+                self.assertTrue(node.func.attr in METHODS or node.func.attr in made or node.func.attr == 'result', where)
+                self.assertNotEqual(node.func.attr, 'sort', where)
+            elif node.func.id in BUILTINS:
+                words = {'sorted': ('key', 'reverse'), 'min': ('key', 'default'), 'max': ('key', 'default')}
+                words.update({'sum': ('start',), 'enumerate': ('start',), 'zip': ('strict',)})
+                for word in node.keywords:
+                    self.assertIn(word.arg, words.get(node.func.id, ()), where)
+
+    def test_iterated_at_once(self):
+        for name, tree in TREES.items():
+            above = parents(tree)
+            for node in ast.walk(tree):
+                if not isinstance(node, ast.Call):
+                    continue
+                func = node.func
+                view = isinstance(func, ast.Attribute) and func.attr in ('items', 'keys', 'values') and not node.args
+                if not view and not (isinstance(func, ast.Name) and func.id in AT_ONCE):
+                    continue
+                over = above[node]
+                fits = isinstance(over, (ast.For, ast.comprehension)) and over.iter is node
+                if isinstance(over, ast.Call) and isinstance(over.func, ast.Name) and over.func.id in TAKERS:
+                    fits = over.args[0] is node or over.func.id == 'zip'
+                if isinstance(over, ast.Call) and isinstance(over.func, ast.Name) and over.func.id == 'reversed':
+                    fits = getattr(func, 'id', '') == 'range'
+                self.assertTrue(fits, f'{name}:{node.lineno}')
+
+    def test_module_level(self):
+        for name, tree in TREES.items():
+            for at, node in enumerate(tree.body):
+                if isinstance(node, ast.Assign):
+                    self.assertEqual(len(node.targets), 1)
+                    self.assertIsInstance(node.targets[0], ast.Name)
+                elif isinstance(node, ast.Expr):
+                    self.assertEqual(at, 0, name)
+                    self.assertIsInstance(node.value, ast.Constant)
+                else:
+                    self.assertIsInstance(node, (ast.FunctionDef, ast.ClassDef, ast.ImportFrom), name)
+
+
+class ClassTest(unittest.TestCase):
+    def test_methods_attributes_and_properties_have_names_of_their_own(self):
+        methods, properties, fixed, attributes = set(), set(), set(), set()
+        for tree in TREES.values():
+            for holder, function in functions(tree):
+                if holder is None:
+                    continue
+                kinds = decorators(function)
+                group = properties if 'property' in kinds else fixed if kinds else methods
+                group.add(function.name)
+        for where, node in nodes(ast.Attribute):
+            if isinstance(node.ctx, ast.Store):
+                attributes.add(node.attr)
+                self.assertNotIn(node.attr, METHODS, where)
+        self.assertFalse(properties & (methods | fixed | attributes))
+        self.assertFalse(fixed & (methods | attributes))
+        self.assertFalse(methods & attributes)
+        self.assertFalse({*METHODS} & (methods | properties | fixed))
+        for where, node in nodes(ast.Attribute):
+            if isinstance(node.ctx, ast.Load):
+                known = methods | properties | fixed | attributes | {*METHODS}
+                self.assertIn(node.attr, known, where)
+
+    def test_special_methods(self):
+        for name, tree in TREES.items():
+            for holder, function in functions(tree):
+                if function.name in ('__eq__', '__repr__', '__str__', '__len__'):
+                    for node in ast.walk(function):
+                        self.assertNotIsInstance(node, (ast.Assign, ast.AugAssign, ast.Delete), name)
+                if function.name in ('__repr__', '__str__'):
+                    for node in ast.walk(function):
+                        if isinstance(node, ast.Return):
+                            self.assertTrue(self.is_text(node.value), f'{name}:{node.lineno}')
+                if function.name == '__len__':
+                    self.assertEqual(ast.unparse(function.body[-1])[:11], 'return len(')
+                if function.name == '__getitem__':
+                    self.assertIn('__iter__', [node.name for node in holder.body if isinstance(node, ast.FunctionDef)])
+
+    def is_text(self, node):
+        if isinstance(node, ast.JoinedStr) or isinstance(node, ast.Constant):
+            return True
+        if isinstance(node.func, ast.Attribute):
+            return node.func.attr == 'join' and isinstance(node.func.value, ast.Constant)
+        return node.func.id in ('str', 'repr')
+
+
+class PureTest(unittest.TestCase):
+    """What operators, properties and the like run changes nothing and calls nothing that it is passed or holds."""
+
+    def test_pure(self):
+        found = {}
+        for name, tree in TREES.items():
+            for holder, function in functions(tree):
+                key = function.name if holder is None else f'.{function.name}'
+                found.setdefault(key, []).append((name, holder, function))
+                if function.name == '__init__':
+                    found.setdefault(holder.name, []).append((name, holder, function))
+        todo = [
+            entry for key in found for entry in found[key]
+            if key[0] == '.' and (key[1:] in PURE or 'property' in decorators(entry[2]))]
+        seen = []
+        while todo:
+            entry = todo.pop()
+            if entry in seen:
+                continue
+            seen.append(entry)
+            for key in self.check_pure(*entry):
+                todo.extend(found.get(key, []))
+        self.assertGreater(len(seen), 50)
+
+    def check_pure(self, name, holder, function):
+        """Checks one function; returns what it calls."""
+        where = f'{name}.{function.name}'
+        own = self.created(function)
+        called = []
+        for node in ast.walk(function):
+            if isinstance(node, (ast.Attribute, ast.Subscript)) and not isinstance(node.ctx, ast.Load):
+                target = node.value
+                fits = isinstance(target, ast.Name) and target.id in own
+                if function.name == '__init__':
+                    fits = fits or (isinstance(node, ast.Attribute) and getattr(target, 'id', '') == 'self')
+                self.assertTrue(fits, f'{where}:{node.lineno}')
+            self.assertNotIsInstance(node, ast.AugAssign, where)
+            if not isinstance(node, ast.Call):
+                continue
+            if isinstance(node.func, ast.Attribute):
+                if node.func.attr in MODIFYING:
+                    self.assertIn(getattr(node.func.value, 'id', None), own, f'{where}:{node.lineno}')
+                called.append(f'.{node.func.attr}')
+            else:
+                self.assertNotIn(node.func.id, locals_of(function), f'{where}:{node.lineno}')
+                called.append(node.func.id)
+        return called
+
+    def created(self, function):
+        """The local variables that hold nothing but lists and dicts that the function created."""
+        good, bad = set(), {arg.arg for arg in ast.walk(function.args) if isinstance(arg, ast.arg)}
+        for node in ast.walk(function):
+            if isinstance(node, ast.Assign):
+                for target in node.targets:
+                    if isinstance(target, ast.Name):
+                        fresh = isinstance(node.value, (ast.List, ast.Dict, ast.ListComp))
+                        call = isinstance(node.value, ast.Call) and getattr(node.value.func, 'id', '')
+                        (good if fresh or call in ('list', 'dict', 'sorted') else bad).add(target.id)
+            elif isinstance(node, ast.For):
+                bad |= {one.id for one in ast.walk(node.target) if isinstance(one, ast.Name)}
+        return good - bad
+
+
+class FilesTest(unittest.TestCase):
+    def test_the_folder_holds_files_of_the_package_only(self):
+        for path in PACKAGE.iterdir():
+            if path.name != '__pycache__':
+                self.assertRegex(path.name, '^[a-z_0-9]+[.]py$')
+                self.assertFalse(keyword.iskeyword(path.stem))
+                self.assertFalse(path.stem != '__init__' and hasattr(builtins, path.stem))
+
+
+if __name__ == '__main__':
+    unittest.main()
