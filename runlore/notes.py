@@ -30,9 +30,7 @@ def is_count(thing):
 
 
 def places_of(note):
-    """The places of which a note speaks; a read speaks of a name."""
-    if note[0] == 'read':
-        return []
+    """The places of which a note speaks; a read speaks of a name only."""
     return [end for end in note[1:3] if is_place(end)]
 
 

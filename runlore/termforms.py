@@ -149,40 +149,31 @@ def put_in(known, name, result, base):
         return base
     if known.conflict is not None:
         return impossible(known.conflict)
-    for word in normal_form(known):
-        # Behind a word that fails, those after it may speak of parts that the result does not have.
-        if base.conflict is not None:
-            return base
-        moved = moved_word(word, name, result)
-        if moved is False:
-            return impossible(word[:1])
-        if moved is not True:
-            base = known_with(base, (moved,))
-    return base
+    words = moved_words(normal_form(known), name, result)
+    return impossible(('kinds', (name,))) if words is None else known_with(base, words)
 
 
-def moved_word(word, name, result):
-    """What a word says of the inputs once the name has the result: a word, or whether it is met."""
-    if word[0] == 'kinds':
-        term = term_at(word[1], name, result)
-        if isinstance(term, Whole):
-            return ('kinds', term.place, word[2])
-        return kind_of_term(term) in word[2]
-    if word[0] == 'tie':
-        return moved_tie(integer_at(word[1], name, result), integer_at(word[2], name, result), word[3])
-    first = atom_form(term_at(word[1], name, result))
-    second = word[2] if isinstance(word[2], str) else atom_form(term_at(word[2], name, result))
-    if first == second or (isinstance(first, str) and isinstance(second, str)):
-        return (first == second) == word[3]
-    return ('alike', second, first, word[3]) if isinstance(first, str) else ('alike', first, second, word[3])
+def moved_words(words, name, result):
+    """What a normal form says of the inputs once the name has the result, or None if the result cannot meet it.
 
-
-def moved_tie(first, second, c):
-    x, more = first
-    y, other = second
-    if x == y:
-        return more - other <= c
-    return ('tie', x, y, c - more + other)
+    Behind a kind that the result lacks there may be words on parts that it does not have.
+    Ties and samenesses may be left between numbers, or between atoms: all that knows them takes these.
+    """
+    found = []
+    for word in words:
+        if word[0] == 'kinds':
+            term = term_at(word[1], name, result)
+            if isinstance(term, Whole):
+                found.append(('kinds', term.place, word[2]))
+            elif kind_of_term(term) not in word[2]:
+                return None
+        elif word[0] == 'tie':
+            x, more = integer_at(word[1], name, result)
+            y, other = integer_at(word[2], name, result)
+            found.append(('tie', x, y, word[3] - more + other))
+        else:
+            found.append(('alike', atom_at(word[1], name, result), atom_at(word[2], name, result), word[3]))
+    return found
 
 
 def term_at(place, name, result):
@@ -200,3 +191,7 @@ def integer_at(end, name, result):
         return (None, 0)
     term = term_at(end, name, result)
     return (term.place, 0) if isinstance(term, Whole) else number_form(term)
+
+
+def atom_at(end, name, result):
+    return end if isinstance(end, str) else atom_form(term_at(end, name, result))

@@ -120,11 +120,8 @@ def flat_terms(term):
 
 
 def is_same_tree(one, other):
-    firsts = flat_terms(one)
-    seconds = flat_terms(other)
-    if len(firsts) != len(seconds):
-        return False
-    for first, second in zip(firsts, seconds):
+    """Whether two terms of one weight are built alike from equal terms."""
+    for first, second in zip(flat_terms(one), flat_terms(other)):
         if isinstance(first, Built) and isinstance(second, Built):
             if len(first.parts) != len(second.parts):
                 return False

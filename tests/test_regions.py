@@ -60,7 +60,7 @@ class NoWordTest(unittest.TestCase):
                 ('kinds', 'x', INTEGER), ('kinds', X, 'integer'), ('kinds', ['x'], INTEGER), ('kinds', ('x', -1), INTEGER),
                 ('kinds', None, INTEGER), ('kind', X, INTEGER), (X, INTEGER), (['kinds'], X, INTEGER),
                 ('tie', X, Y), ('tie', X, Y, '0'), ('tie', X, Y, True), ('tie', X, Y, None), ('tie', X, Y, 1.0),
-                ('tie', X, 0, 0), ('tie', 'x', Y, 0), ('tie', X, Y, 0, True),
+                ('tie', X, 0, 0), ('tie', 0, Y, 0), ('tie', ['x'], Y, 0), ('tie', 'x', Y, 0), ('tie', X, Y, 0, True),
                 ('alike', Z, 'red'), ('alike', Z, 'red', 1), ('alike', Z, 'red', None), ('alike', 'red', Z, True),
                 ('alike', Z, 'Red', True), ('alike', Z, '', True), ('alike', Z, 'abcdefghi', True), ('alike', Z, 3, True),
                 ('alike', None, Z, True), ('alike', Z, None, True)):
@@ -335,6 +335,19 @@ class ComparingTest(unittest.TestCase):
                 (('alike', a, 'red', True), True), (('alike', a, 'blue', False), True), (('alike', b, 'red', False), True),
                 (('alike', a, c, False), True), (('alike', c, b, False), False), (('alike', c, b, True), False)):
             self.assertIs(region.implies(word), told, word)
+
+    def test_atoms_that_become_known_later(self):
+        a, b, c, d = named('abcd')
+        for first, second in ((b, c), (c, b)):
+            apart = Region(atoms(a, b, c, d)).with_word(('alike', first, second, False))
+            red = apart.with_word(('alike', b, 'red', True))
+            joined = apart.with_word(('alike', a, b, True)).with_word(('alike', d, c, True))
+            for region, one, other in ((red, b, c), (red, c, b), (red, c, 'red'), (joined, a, d), (joined, d, a),
+                                       (joined, b, c), (joined, c, b), (joined, a, c), (joined, d, b)):
+                self.assertIs(region.implies(('alike', one, other, False)), True)
+                self.assertIs(region.implies(('alike', one, other, True)), False)
+                self.assertEqual(region.with_word(('alike', one, other, True)).conflict[0], 'alike')
+            self.assertIs(red.implies(('alike', b, d, False)), False)
 
     def test_within_and_common_members(self):
         wide = Region(integers(X) + [('tie', X, None, 9)])

@@ -145,6 +145,30 @@ class ExpressionTest(RunnerTest):
         self.check_fault(('fold', 'a', read('t'), 'x', read('i'), name('a')), 'kind')
         self.check_fault(('fold', 'a', integer(0), 'x', read('t'), ('plus', name('x'), 1)), 'kind', (5,))
 
+    def test_trees_inside_of_others_leave_the_others_alone(self):
+        given = {'i': 1, 'r': 'red', 't': (3, 4)}
+        book = Book([('d', ('p', 'q'), None, tuple_of(name('q'), name('p')))])
+        trees = (
+            (integer(7), 7), (read('r'), 'red'), (('plus', read('i'), 2), 3), (tuple_of(), ()),
+            (tuple_of(integer(1), integer(2)), (1, 2)), (('part', read('t'), 1), 4), (('join', read('t'), read('t')), (3, 4, 3, 4)),
+            (('reach', atom('i')), 1), (('call', 'd', (integer(1), integer(2))), (2, 1)),
+            (('let', 'x', integer(1), name('x')), 1), (('each', 'x', read('t'), integer(0)), (0, 0)),
+            (('pick', 'x', read('t'), ('most', name('x'), 0, integer(3))), (3,)),
+            (('fold', 'a', integer(0), 'x', read('t'), name('x')), 4),
+            (answer(('is', 'atom', read('r'))), 1), (answer(('sized', read('t'), 1)), 0),
+            (answer(('sized', tuple_of(integer(1)), 1)), 1), (answer(('most', read('i'), 0, integer(5))), 1),
+            (answer(('alike', read('r'), atom('b'))), 0), (answer(('not', ('is', 'atom', read('r')))), 0),
+            (answer(('both', ('is', 'atom', read('r')), ('most', integer(1), 0, integer(1)))), 1),
+            (answer(('both', ('is', 'atom', read('i')), ('is', 'atom', ('fail', 'bad')))), 0),
+            (answer(('either', ('is', 'atom', read('i')), ('alike', read('r'), read('r')))), 1))
+        for tree, value in trees:
+            for other, more in trees:
+                body = tuple_of(atom('z'), tree, other, ('join', tuple_of(tree), tuple_of(atom('y'), other)))
+                self.check(body, ('z', value, more, (value, 'y', more)), book, given)
+                nested = ('let', 'm', other, tuple_of(tree, name('m'), ('call', 'd', (tree, other))))
+                if tree[0] != 'let' and other[0] != 'let':
+                    self.check(nested, (value, more, (more, value)), book, given)
+
     def test_operands_come_first(self):
         bad, worse = ('fail', 'bad'), ('fail', 'worse')
         self.check_fault(('fold', 'a', bad, 'x', worse, name('a')), 'bad', (2,))
