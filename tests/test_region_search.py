@@ -50,7 +50,7 @@ class SearchTest(unittest.TestCase):
             with self.assertRaises(NoWord) as caught:
                 Region(words + [word, ('kinds',)])
             self.assertEqual(caught.exception.at, len(words))
-        self.assertGreater(refused, 50)
+        self.assertGreater(refused, 25)
 
     def test_membership_least_and_conflict(self):
         empty = {'kinds': 0, 'cycle': 0, 'alike': 0}
