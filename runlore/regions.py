@@ -14,11 +14,11 @@ class Region:
 
     def __init__(self, words=()):
         # The package itself makes regions of what is known.
-        self._known = words if isinstance(words, Known) else known_of(words)
-        self.conflict = self._known.conflict
+        self.known = words if isinstance(words, Known) else known_of(words)
+        self.conflict = self.known.conflict
 
     def __contains__(self, given):
-        return isinstance(given, dict) and is_member(self._known, given)
+        return isinstance(given, dict) and is_member(self.known, given)
 
     def __bool__(self):
         return self.conflict is None
@@ -28,14 +28,14 @@ class Region:
             return self
         if other.conflict is not None:
             return other
-        return Region(known_with(self._known, other.words))
+        return Region(known_with(self.known, other.words))
 
     def __sub__(self, other):
         if self.conflict is not None:
             return ()
         if other.conflict is not None:
             return (self,)
-        return tuple([Region(known) for known in differences(self._known, other.words)])
+        return tuple([Region(known) for known in differences(self.known, other.words)])
 
     def __eq__(self, other):
         return isinstance(other, Region) and self.words == other.words
@@ -43,12 +43,12 @@ class Region:
     @property
     def words(self):
         """The normal form: a tuple of words, or None without a member."""
-        return normal_form(self._known)
+        return normal_form(self.known)
 
     @property
     def least(self):
         """The least member, or None."""
-        return None if self.conflict is not None else least_member(self._known)
+        return None if self.conflict is not None else least_member(self.known)
 
     def within(self, other):
         """Whether all members are members of the other region."""
@@ -56,40 +56,40 @@ class Region:
             return True
         if other.conflict is not None:
             return False
-        return all([is_implied(self._known, word) for word in other.words])
+        return all([is_implied(self.known, word) for word in other.words])
 
     def kinds(self, p):
         """The kind set at a place that is there, else None."""
-        if self.conflict is not None or not is_there(self._known.sets, p):
+        if self.conflict is not None or not is_there(self.known.sets, p):
             return None
-        return kinds_in(self._known.sets, p)
+        return kinds_in(self.known.sets, p)
 
     def with_word(self, word):
         """The region with one word more."""
         if self.conflict is not None:
             return self
-        if not is_word(word) or not is_grounded(self._known.sets, word):
+        if not is_word(word) or not is_grounded(self.known.sets, word):
             raise NoWord(0)
-        return Region(known_with(self._known, (word,)))
+        return Region(known_with(self.known, (word,)))
 
     def implies(self, word):
         """Whether the word is grounded here and every member meets it."""
         if self.conflict is not None:
             return True
-        return is_word(word) and is_implied(self._known, word)
+        return is_word(word) and is_implied(self.known, word)
 
     def written(self, term):
         """The term in the form that all terms have that are the same at every member."""
-        return written_term(self._known, term)
+        return written_term(self.known, term)
 
     def distinguish(self, one, other):
         """Some member at which two terms differ, or None."""
-        known = telling(self._known, one, other)
+        known = telling(self.known, one, other)
         return None if known is None else least_member(known)
 
     def substituted(self, name, result, base):
         """The members of the base that are members here once the name has the value of the result."""
-        return Region(put_in(self._known, name, result, base._known))
+        return Region(put_in(self.known, name, result, base.known))
 
 
 def known_of(words):

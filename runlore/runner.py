@@ -1,7 +1,8 @@
 """Plain runs: a body, run on values."""
 
 from runlore.errors import NoCell
-from runlore.runs import Made, Run, run_to_end
+from runlore.runs import run_to_end
+from runlore.runstates import Made, started
 from runlore.values import Fault, kind_of
 
 
@@ -47,7 +48,7 @@ class PlainView:
 
 def plain(book, body, given, *, rule=''):
     """What a body without parameters returns, where names have the given values or faults."""
-    run = Run(book, body, rule, PlainView(given))
+    run = started(book, body, rule, PlainView(given))
     run_to_end(run)
     return finished(run.stack[-1]) if run.fault is None else run.fault
 

@@ -16,63 +16,13 @@ then stands before the step as if it had not begun it.
     is_alike(one, other)      whether two atoms are the same
 """
 
+from runlore.runstates import Frame, Loop, Made
 from runlore.steps import body_steps
 from runlore.values import Fault
 
 MOST_WORK = 4096
 MOST_NEST = 30
 MOST_CALLS = 12
-
-
-class Made:
-    """A tuple that this run has made; its parts keep the weights that they had."""
-
-    def __init__(self, parts):
-        self.parts = parts
-        self.weight = 1 + sum([weight_of(part) for part in parts])
-        self.nest = 1 + max([nest_of(part) for part in parts], default=0)
-
-
-def weight_of(thing):
-    return thing.weight if isinstance(thing, Made) else 1
-
-
-def nest_of(thing):
-    return thing.nest if isinstance(thing, Made) else 0
-
-
-class Loop:
-    """Where a loop stands: the number of parts begun, and what it has collected."""
-
-    def __init__(self, parts):
-        self.parts = parts
-        self.begun = 0
-        self.found = []
-
-
-class Frame:
-    """A body that is being run, of the cell or definition called rule."""
-
-    def __init__(self, rule, steps):
-        self.rule = rule
-        self.steps = steps
-        self.at = 0
-        self.slots = {}
-        self.loops = []
-
-
-class Run:
-    """A run of the body of a cell."""
-
-    def __init__(self, book, body, rule, view):
-        self.book = book
-        self.view = view
-        self.frame = Frame(rule, body_steps(body, ()))
-        self.callers = []
-        self.called = {}
-        self.stack = []
-        self.work = 0
-        self.fault = None
 
 
 def run_to_end(run):

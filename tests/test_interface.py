@@ -8,6 +8,14 @@ FUNCTIONS = {
     'values': {'is_value': 'thing', 'kind_of': 'value', 'depth_of': 'value', 'is_before': 'one other'},
     'places': {'is_place': 'thing', 'value_at': 'inputs place', 'with_part': 'inputs place value'},
     'runner': {'plain': 'book body given *rule'},
+    'trees': {
+        'children': 'tree', 'subtree': 'tree path', 'count': 'tree', 'look_body': 'book body *name'},
+    'treetexts': {'show_expression': 'tree', 'read_expression': 'text'},
+    'watcher': {'watched': 'sheet cell given', 'walked': 'sheet cell notes'},
+    'tables': {
+        'table': 'sheet cell box *region *most', 'uncovered': 'sheet cell clauses box *most',
+        'witnesses': 'clauses box'},
+    'sameness': {'same': 'sheet cell other other_cell box *most'},
 }
 CLASSES = {
     'values': {'Fault': ('word rule path', '__eq__ __str__ __repr__')},
@@ -23,6 +31,9 @@ CLASSES = {
     'errors': {name: (None, '') for name in (
         'LoreError NoText NoBook NoSheet NoWord NoNote NoInput TooMany TooBig NoPlace NoCell').split()},
     'trees': {'Book': ('definitions', '__len__ __getitem__ __eq__')},
+    'boxes': {'Box': ('size depth', 'fits kinds narrowed all_inputs')},
+    'sheets': {'Sheet': ('book inputs cells', '__eq__ body rewritten redefined answer answers knots')},
+    'lore': {'Lore': ('clauses', 'learn walk forget clauses __len__ __contains__ __eq__')},
 }
 METHODS = {
     ('kindsets', 'Kinds'): {'everything': '', 'present': '', 'of': 'word', 'sized': 'k', 'within': 'self other'},
@@ -34,6 +45,13 @@ METHODS = {
     ('terms', 'Shifted'): {'__call__': 'self inputs'},
     ('terms', 'Built'): {'__call__': 'self inputs'},
     ('clauses', 'Clause'): {'__call__': 'self inputs'},
+    ('boxes', 'Box'): {
+        'fits': 'self value', 'kinds': 'self place', 'narrowed': 'self region',
+        'all_inputs': 'self names integers atoms *faults'},
+    ('sheets', 'Sheet'): {
+        'body': 'self name', 'rewritten': 'self name body', 'redefined': 'self definition',
+        'answer': 'self cell given', 'answers': 'self given', 'knots': 'self given'},
+    ('lore', 'Lore'): {'learn': 'self clause', 'walk': 'self inputs', 'forget': 'self clause', 'clauses': 'self'},
 }
 
 
@@ -73,6 +91,12 @@ class InterfaceTest(unittest.TestCase):
     def test_defaults(self):
         self.assertEqual(inspect.signature(module('runner').plain).parameters['rule'].default, '')
         self.assertEqual(inspect.signature(module('regions').Region).parameters['words'].default, ())
+        self.assertEqual(inspect.signature(module('lore').Lore).parameters['clauses'].default, ())
+        self.assertEqual(inspect.signature(module('trees').look_body).parameters['name'].default, '')
+        self.assertIs(inspect.signature(module('boxes').Box.all_inputs).parameters['faults'].default, False)
+        self.assertIsNone(inspect.signature(module('tables').table).parameters['region'].default)
+        for function in (module('tables').table, module('tables').uncovered, module('sameness').same):
+            self.assertEqual(inspect.signature(function).parameters['most'].default, 400)
         shape = inspect.signature(module('values').Fault).parameters
         self.assertEqual((shape['rule'].default, shape['path'].default), ('', ()))
 

@@ -23,7 +23,7 @@ BUILTINS = (
 METHODS = (
     'append clear copy count endswith extend find get index insert isalnum isalpha isdigit islower isspace isupper '
     'items join keys ljust lower lstrip partition pop remove replace reverse rfind rjust rpartition rsplit rstrip '
-    'setdefault split splitlines startswith strip update upper values zfill bit_length').split()
+    'setdefault split splitlines startswith strip update upper values zfill bit_length removeprefix').split()
 MODIFYING = ('append', 'clear', 'extend', 'insert', 'pop', 'remove', 'reverse', 'setdefault', 'update', 'sort')
 NOWHERE = ('register', 'mro', 'elements', 'open', 'input', 'law', 'version_info', 'with_traceback', 'add_note')
 BARRED_WORDS = (
@@ -152,8 +152,8 @@ class FormTest(unittest.TestCase):
 
     def test_constructs(self):
         barred = (
-            ast.GeneratorExp, ast.Yield, ast.YieldFrom, ast.Set, ast.SetComp, ast.Lambda, ast.Global, ast.AsyncFunctionDef,
-            ast.Await, ast.AnnAssign, ast.Div, ast.Match, ast.NamedExpr, ast.MatMult)
+            ast.GeneratorExp, ast.Set, ast.SetComp, ast.Lambda, ast.Global, ast.AsyncFunctionDef, ast.Await, ast.AnnAssign,
+            ast.Div, ast.Match, ast.NamedExpr, ast.MatMult)
         for where, node in nodes(ast.AST):
             self.assertNotIsInstance(node, barred, where)
             if isinstance(node, ast.arg):
@@ -204,6 +204,31 @@ class FormTest(unittest.TestCase):
                 if isinstance(over, ast.Call) and isinstance(over.func, ast.Name) and over.func.id == 'reversed':
                     fits = getattr(func, 'id', '') == 'range'
                 self.assertTrue(fits, f'{name}:{node.lineno}')
+
+    def test_generators(self):
+        made = [node for _, node in nodes(ast.FunctionDef)]
+        generators = [node for node in made if any(isinstance(one, (ast.Yield, ast.YieldFrom)) for one in ast.walk(node))]
+        names = [node.name for node in generators]
+        for node in generators:
+            self.assertEqual([other.name for other in made].count(node.name), 1, node.name)
+            self.assertFalse(node.decorator_list or node.name.startswith('__') or node.name in METHODS, node.name)
+            above = parents(node)
+            for one in ast.walk(node):
+                if isinstance(one, (ast.Yield, ast.YieldFrom)):
+                    self.assertIsInstance(above[one], ast.Expr, node.name)
+                self.assertNotIsInstance(one, (ast.Try, ast.With), node.name)
+                self.assertFalse(isinstance(one, ast.Return) and one.value is not None, node.name)
+        for name, tree in TREES.items():
+            above = parents(tree)
+            for node in ast.walk(tree):
+                if isinstance(node, ast.Name) and node.id in names:
+                    self.assertIsInstance(above[node], ast.Call, name)
+                if isinstance(node, ast.Call) and getattr(node.func, 'id', getattr(node.func, 'attr', None)) in names:
+                    over = above[node]
+                    fits = isinstance(over, (ast.For, ast.comprehension)) and over.iter is node
+                    self.assertTrue(fits or isinstance(over, ast.YieldFrom), f'{name}:{node.lineno}')
+                    for arg in node.args:
+                        self.assertIsInstance(arg, (ast.Name, ast.Attribute, ast.Constant), f'{name}:{node.lineno}')
 
     def test_module_level(self):
         for name, tree in TREES.items():
