@@ -19,7 +19,7 @@ def same(sheet, cell, other, other_cell, box, *, most=400):
     tree = tree_of(two)
     for first in one:
         for second, limits in meeting(tree, box.narrowed(first.region).known, box):
-            inputs = parting(first.result, second.result, limits, box)
+            inputs = parting(first.result, second.result, limits)
             if inputs is not None:
                 return ('parted', inputs, first, second)
     return ('same', one, two)
@@ -43,12 +43,10 @@ def meeting(tree, limits, box):
     return found
 
 
-def parting(one, other, limits, box):
+def parting(one, other, limits):
     """Some inputs within the limits at which two results differ, or None."""
     region = Region(limits)
     if isinstance(one, Fault) or isinstance(other, Fault):
         return None if one == other else region.least
-    for place in (*one.places, *other.places):
-        # What a term tells as it is may be in the box in fewer ways than the notes say.
-        region = region.with_word(('kinds', place, box.kinds(place)))
+    # Of a place of which no note speaks, the first kinds are taken, which every box has everywhere.
     return region.distinguish(one, other)

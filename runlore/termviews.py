@@ -9,7 +9,6 @@ from runlore.runstates import Made, run_copy, started
 from runlore.termforms import atom_form, kind_of_term
 from runlore.terms import Built, Literal, Shifted, Whole
 from runlore.ties import bound_of
-from runlore.values import is_integer
 
 
 class Undecided(Exception):
@@ -41,8 +40,7 @@ class TermView:
 
     def is_kind(self, thing, word):
         if not isinstance(thing, Whole):
-            kind = kind_of_term(thing)
-            return word == ('tuple' if is_integer(kind) else kind)
+            return kind_of_term(thing) == word
         kinds = kinds_in(self.known.sets, thing.place)
         wanted = Kinds.of(word)
         if kinds.within(wanted):
@@ -52,16 +50,12 @@ class TermView:
         return False
 
     def count_of(self, thing):
-        if isinstance(thing, Built):
-            return len(thing.parts)
         size = kinds_in(self.known.sets, thing.place).size
         if size is None:
             raise Undecided(('size', thing.place))
         return size
 
     def is_sized(self, thing, k):
-        if isinstance(thing, Built):
-            return len(thing.parts) == k
         kinds = kinds_in(self.known.sets, thing.place)
         if kinds.size == k:
             return True
@@ -70,7 +64,7 @@ class TermView:
         return False
 
     def part_of(self, thing, k):
-        return thing.parts[k] if isinstance(thing, Built) else Whole(thing.place + (k,))
+        return Whole(thing.place + (k,))
 
     def moved(self, thing, k):
         x, more = end_of(thing)

@@ -81,7 +81,7 @@ def read_word(reader, word):
     if bracket.head is None:
         return read_head(reader, word)
     many = len(bracket.found)
-    if bracket.sorts and bracket.sorts[-1] == 'expressions' and many >= len(bracket.sorts) - 1:
+    if bracket.sorts[-1] == 'expressions' and many >= len(bracket.sorts) - 1:
         return close_bracket(reader) if word == ")" else read_item(reader, word, 'expression')
     if many == len(bracket.sorts):
         return word == ")" and close_bracket(reader)

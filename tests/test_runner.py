@@ -389,6 +389,12 @@ class PlainTest(RunnerTest):
             value = (value,)
         self.check(tuple_of(read('t')), (value,), given={'t': value})
 
+    def test_deep_bodies(self):
+        body = read('i')
+        for _ in range(1000):
+            body = ('if', ('most', ('int', 0), 0, ('int', 1)), ('plus', body, 1), ('fail', 'no'))
+        self.check(body, 1007, given={'i': 7})
+
     def test_books(self):
         one, two = ('d', ('p',), None, name('p')), ('e', (), None, integer(1))
         book = Book([one, two])

@@ -130,6 +130,60 @@ class TableTest(unittest.TestCase):
             uncovered(COUNT, 'n', (), Box(2, 1), 5)
 
 
+class BranchTest(unittest.TestCase):
+    """Runs that go several ways from inside of loops and calls."""
+
+    def check(self, sheet, box, region=None, most=400):
+        t = table(sheet, 'n', box, region=region, most=most)
+        for clause, least in zip(t, witnesses(t, box)):
+            self.assertEqual(watched(sheet, 'n', least), clause)
+        return t
+
+    def test_inside_of_loops(self):
+        pairs = Region([('kinds', T, Kinds.sized(2))])
+        for body, found in (
+                ('( each x ( read t ) ( if ( is integer x ) ( plus x 1 ) x ) )',
+                 ['( @t.0+1 @t.1+1 )', '( @t.0+1 @t.1 )', '( @t.0 @t.1+1 )', '( @t.0 @t.1 )']),
+                ('( pick x ( read t ) ( is integer x ) )', ['( @t.0+0 @t.1+0 )', '( @t.0+0 )', '( @t.1+0 )', '( )']),
+                ('( fold a 0 x ( read t ) ( if ( is integer x ) ( plus a 1 ) a ) )', ['2', '1', '1', '0']),
+                ('( each y ( read t ) ( fold a 0 x ( tuple y 1 ) ( if ( is integer y ) ( plus a 1 ) a ) ) )',
+                 ['( 2 2 )', '( 2 0 )', '( 0 2 )', '( 0 0 )'])):
+            t = self.check(sheet_of(body), Box(2, 1), pairs)
+            self.assertEqual(results(t), found, body)
+
+    def test_inside_of_calls(self):
+        f = ('f', ('p', 'q'), None, text("( if ( is integer ( read u ) ) ( tuple 1 ) ( tuple 2 ) )"))
+        g = ('g', ('p',), None, ('join', ('call', 'f', (('name', 'p'), ('int', 1))), ('tuple', (('name', 'p'),))))
+        s = Sheet(Book((f, g)), ('t', 'u'), (('n', ('tuple', (('call', 'g', (('read', 't'),)), ('read', 'u')))),))
+        self.assertEqual(results(self.check(s, Box(1, 1))), ['( ( 1 @t ) @u+0 )', '( ( 2 @t ) @u )', 'fault read', 'fault read'])
+
+    def test_work_before_and_behind_a_branch(self):
+        """About 1,560 are counted for each of two tuples; a third one is too much."""
+        def big(name, start):
+            return (f'( fold {name} {start} {name}x ( tuple 1 1 1 1 1 1 1 1 ) '
+                    f'( join {name} ( if ( is integer ( read t ) ) {name} {name} ) ) )')
+
+        one = '( tuple 1 1 1 )'
+        body = (f"( let one {big('a', one)} ( let two {big('b', one)} ( if ( is integer ( read u ) ) "
+                f"( part one 7 ) ( part {big('d', one)} 7 ) ) ) )")
+        sheet = sheet_of(body)
+        t = self.check(sheet, Box(0, 0))
+        self.assertEqual(results(t), ['1', 'fault long', 'fault read'] * 2 + ['fault read'])
+        for given in ({'t': 0, 'u': 0}, {'t': 'a', 'u': 0}, {'t': 0, 'u': 'a'}):
+            found = [clause for clause in t if given in clause]
+            self.assertEqual(found[0](given), logged(sheet, 'n', given)[1])
+
+    def test_work_of_loops_that_branch(self):
+        """Each turn costs nearly as much as all runs that go on from it may still cost."""
+        turn = '( if ( is integer x ) ( tuple ' + '1 ' * 100 + ') ( tuple ' + '2 ' * 100 + ') )'
+        body = '( part ( each x ( read t ) ( fold a 0 y ( tuple ' + '1 ' * 8 + f') {turn} ) ) 0 )'
+        for many, fault in ((3, False), (4, False), (5, True)):
+            region = Region([('kinds', T, Kinds.sized(many))])
+            t = self.check(sheet_of(body), Box(many, 1), region)
+            self.assertEqual(len(t), 2 ** many)
+            self.assertEqual({clause.result == Fault('long') for clause in t}, {fault})
+
+
 class UncoveredTest(unittest.TestCase):
     def test_each_clause_lacking(self):
         box = Box(2, 1)

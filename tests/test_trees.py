@@ -311,6 +311,11 @@ class CallTest(unittest.TestCase):
         self.assertIsNone(falling(('fold', 'a', ONE, 'x', p, call)))
         self.assertEqual(falling(('fold', 'x', p, 'a', p, call)), ('piece', (5,)))
         self.assertEqual(falling(('fold', 'a', p, 'x', ONE, call)), ('piece', (5,)))
+        of_part = ('call', 'f', (('part', x, 0), ONE))
+        self.assertEqual(falling(('fold', 'x', p, 'a', p, of_part)), ('piece', (5,)))
+        self.assertEqual(falling(('each', 'x', ('name', 'q'), of_part)), ('piece', (3,)))
+        self.assertEqual(falling(('each', 'x', ('tuple', (p,)), of_part)), ('piece', (3,)))
+        self.assertEqual(falling(of_part), ('piece', ()))
         # What a loop over a piece holds is a piece, and so are its parts.
         inner = ('each', 'y', ('name', 'x'), ('call', 'f', (('part', ('name', 'y'), 2), ONE)))
         self.assertIsNone(falling(('each', 'x', p, inner)))
