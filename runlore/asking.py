@@ -18,7 +18,7 @@ class Asking:
 
     def __init__(self, sheet, given):
         self.sheet = sheet
-        self.given = given
+        self.told_inputs = given
         self.found = {}
         self.rings = []
 
@@ -35,7 +35,7 @@ class AskingView(PlainView):
     def told(self, name):
         asking = self.asking
         if name in asking.sheet.inputs:
-            thing = asking.given.get(name)
+            thing = asking.told_inputs.get(name)
         elif name in asking.found:
             thing = asking.found[name]
         else:
@@ -49,21 +49,21 @@ def settle(asking, cell):
     wanted = None if cell in asking.found else cell
     while wanted is not None:
         if wanted in waiting:
-            close_ring(asking, waiting, wanted)
+            asking.rings.append(close_ring(asking.found, waiting, wanted))
         else:
             body = asking.sheet.body(wanted)
             waiting[wanted] = started(asking.sheet.book, body, wanted, AskingView(asking))
         wanted = next_wanted(asking, waiting)
 
 
-def close_ring(asking, waiting, first):
-    """All cells that wait, from this one on, wait for themselves."""
+def close_ring(found, waiting, first):
+    """All cells that wait, from this one on, wait for themselves: they get their answers. Returns the ring."""
     order = list(waiting)
     ring = tuple(order[order.index(first):])
-    asking.rings.append(ring)
     for name in ring:
-        asking.found[name] = Fault('knot', name)
+        found[name] = Fault('knot', name)
         del waiting[name]
+    return ring
 
 
 def next_wanted(asking, waiting):

@@ -57,7 +57,8 @@ def least_member(known):
     names = {place[0]: True for place in told_places(known)}
     shapes = {name: shape_of(known.sets, name) for name in names}
     leaves = [leaf for name in shapes for leaf in shapes[name]]
-    integers = least_integers(known.rows, [place for place, kind in leaves if kind == 'integer'])
+    # The first integer in the order of values is the one next to 0.
+    integers = near_integers(known.rows, {place: 0 for place, kind in leaves if kind == 'integer'})
     atoms = least_atoms(known.likes, [place for place, kind in leaves if kind == 'atom'])
     return {name: filled(shapes[name], integers, atoms) for name in shapes}
 
@@ -75,21 +76,17 @@ def shape_of(sets, name):
     return shape
 
 
-def least_integers(rows, places):
-    """The least integer for each place, one after another; each choice leaves some for the later ones."""
+def near_integers(rows, wanted):
+    """An integer for each place, as near as can be to the one that is wanted there.
+
+    They are chosen one after another; each choice leaves some for the later ones.
+    """
     chosen = {None: 0}
-    for x in places:
+    for x in wanted:
         highs = [rows[x][y] + chosen[y] for y in rows[x] if y in chosen] if x in rows else []
         lows = [chosen[y] - rows[y][x] for y in rows if x in rows[y] and y in chosen]
-        chosen[x] = nearest(max(lows, default=0), min(highs, default=0))
+        chosen[x] = max([min([wanted[x], *highs]), *lows])
     return chosen
-
-
-def nearest(low, high):
-    """The first integer, in the order of values, from low to high; a bound that includes 0 does not matter."""
-    if low > 0:
-        return low
-    return high if high < 0 else 0
 
 
 def least_atoms(likes, places):

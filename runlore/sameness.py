@@ -16,13 +16,19 @@ def same(sheet, cell, other, other_cell, box, *, most=400):
     other.body(other_cell)
     one = table(sheet, cell, box, most=most)
     two = table(other, other_cell, box, most=most)
+    parted = first_parting(one, two, box)
+    return ('same', one, two) if parted is None else ('parted', *parted)
+
+
+def first_parting(one, two, box):
+    """Inputs in the box at which two tables do not agree, and the clauses of both that have them; or None."""
     tree = tree_of(two)
     for first in one:
         for second, limits in meeting(tree, box.narrowed(first.region).known, box):
             inputs = parting(first.result, second.result, limits)
             if inputs is not None:
-                return ('parted', inputs, first, second)
-    return ('same', one, two)
+                return inputs, first, second
+    return None
 
 
 def meeting(tree, limits, box):

@@ -43,8 +43,7 @@ class Sheet:
 
     def answer(self, cell, given):
         """What a cell returns for these inputs."""
-        index_of(self.cells, cell)
-        check_inputs(self.inputs, given)
+        check_asked(self, cell, given)
         asking = Asking(self, given)
         settle(asking, cell)
         return asking.found[cell]
@@ -102,6 +101,12 @@ def check_inputs(inputs, given):
     for name in sorted(list(given)):
         if name not in inputs:
             raise NoCell(name)
+
+
+def check_asked(sheet, cell, given):
+    """There is such a cell, and all given names are inputs."""
+    index_of(sheet.cells, cell)
+    check_inputs(sheet.inputs, given)
 
 
 def all_asked(sheet, given):

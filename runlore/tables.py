@@ -3,8 +3,8 @@
 from runlore.errors import TooMany
 from runlore.known import kinds_in, known_with, nothing_known
 from runlore.notes import word_of
-from runlore.termviews import next_question, take_note, term_run, term_run_copy
-from runlore.watcher import ended_clause
+from runlore.termviews import ended_result, next_question, take_note, term_run, term_run_copy
+from runlore.watcher import clause_of
 
 
 def table(sheet, cell, box, *, region=None, most=400):
@@ -21,7 +21,7 @@ def table(sheet, cell, box, *, region=None, most=400):
         elif len(found) == most:
             raise TooMany(most)
         else:
-            found.append(ended_clause(run))
+            found.append(clause_of(run.view, ended_result(run)))
     return tuple(found)
 
 

@@ -19,7 +19,10 @@ class Undecided(Exception):
 
 
 class TermView:
-    """Notes, what they tell, and which names have been read; the names are those that can be reached."""
+    """Notes, what they tell, and which names have been read; the names are those that can be reached.
+
+    A run holds terms. Built ones are what other runs made, if they are read.
+    """
 
     def __init__(self, names):
         self.names = names
@@ -39,6 +42,8 @@ class TermView:
         return Whole((name,)) if self.read[name] else None
 
     def is_kind(self, thing, word):
+        if isinstance(thing, Built):
+            return word == 'tuple'
         if not isinstance(thing, Whole):
             return kind_of_term(thing) == word
         kinds = kinds_in(self.known.sets, thing.place)
@@ -50,12 +55,16 @@ class TermView:
         return False
 
     def count_of(self, thing):
+        if isinstance(thing, Built):
+            return len(thing.parts)
         size = kinds_in(self.known.sets, thing.place).size
         if size is None:
             raise Undecided(('size', thing.place))
         return size
 
     def is_sized(self, thing, k):
+        if isinstance(thing, Built):
+            return len(thing.parts) == k
         kinds = kinds_in(self.known.sets, thing.place)
         if kinds.size == k:
             return True
@@ -64,6 +73,8 @@ class TermView:
         return False
 
     def part_of(self, thing, k):
+        if isinstance(thing, Built):
+            return thing.parts[k]
         return Whole(thing.place + (k,))
 
     def moved(self, thing, k):
@@ -129,6 +140,11 @@ def take_note(view, note):
     view.notes = (*view.notes, note)
     if note[0] == 'read':
         view.read[note[1]] = note[2]
+
+
+def ended_result(run):
+    """The term or fault with which a run has ended."""
+    return told_term(run.stack[-1]) if run.fault is None else run.fault
 
 
 def told_term(thing):

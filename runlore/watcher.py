@@ -5,7 +5,8 @@ from runlore.errors import NoNote
 from runlore.notes import is_note
 from runlore.questions import outcome_at, question_of
 from runlore.termforms import written_term
-from runlore.termviews import next_question, take_note, term_run, told_term
+from runlore.termviews import ended_result, next_question, take_note, term_run
+from runlore.values import Fault
 
 
 def watched(sheet, cell, given):
@@ -15,7 +16,7 @@ def watched(sheet, cell, given):
     while question is not None:
         take_note(run.view, (*question, outcome_at(given, question)))
         question = next_question(run)
-    return ended_clause(run)
+    return clause_of(run.view, ended_result(run))
 
 
 def walked(sheet, cell, notes):
@@ -33,13 +34,11 @@ def walked(sheet, cell, notes):
         at = at + 1
     if at < len(notes):
         raise NoNote(at)
-    return ended_clause(run)
+    return clause_of(run.view, ended_result(run))
 
 
-def ended_clause(run):
-    """The clause of a run on terms that has ended."""
-    known = run.view.known
-    told = Told(run.view.notes, known)
-    if run.fault is not None:
-        return Clause(told, run.fault)
-    return Clause(told, written_term(known, told_term(run.stack[-1])))
+def clause_of(view, result):
+    """The clause of what a view has noted, with the result as it is written there."""
+    if not isinstance(result, Fault):
+        result = written_term(view.known, result)
+    return Clause(Told(view.notes, view.known), result)

@@ -16,6 +16,16 @@ FUNCTIONS = {
         'table': 'sheet cell box *region *most', 'uncovered': 'sheet cell clauses box *most',
         'witnesses': 'clauses box'},
     'sameness': {'same': 'sheet cell other other_cell box *most'},
+    'preimages': {'preimage': 'sheet cell goal box *most'},
+    'composing': {'composed': 'sheet cell given *most'},
+    'margins': {'margin': 'sheet cell given place *most'},
+    'wishes': {'wish': 'sheet cell given goal *most'},
+    'rest': {'rest': 'sheet cell region box *most'},
+    'checker': {
+        'holds_clause': 'sheet cell answer', 'holds_table': 'sheet cell box answer',
+        'holds_same': 'sheet cell other other_cell box answer', 'holds_composed': 'sheet cell answer',
+        'holds_margin': 'sheet cell given place answer', 'holds_wish': 'sheet cell given goal answer',
+        'holds_code': 'clauses answer'},
 }
 CLASSES = {
     'values': {'Fault': ('word rule path', '__eq__ __str__ __repr__')},
@@ -34,6 +44,11 @@ CLASSES = {
     'boxes': {'Box': ('size depth', 'fits kinds narrowed all_inputs')},
     'sheets': {'Sheet': ('book inputs cells', '__eq__ body rewritten redefined answer answers knots')},
     'lore': {'Lore': ('clauses', 'learn walk forget clauses __len__ __contains__ __eq__')},
+    'codes': {'Code': (None, 'of __len__ __eq__'), 'Machine': ('code ask', 'step run')},
+    'engine': {
+        'Engine': ('sheet given', 'ask runs lore edit clear edit_part rewrite redefine undo forget take_in trial in_trial '
+                                  '__len__ __eq__ given'),
+        'Trial': (None, 'keep __enter__ __exit__')},
 }
 METHODS = {
     ('kindsets', 'Kinds'): {'everything': '', 'present': '', 'of': 'word', 'sized': 'k', 'within': 'self other'},
@@ -52,6 +67,13 @@ METHODS = {
         'body': 'self name', 'rewritten': 'self name body', 'redefined': 'self definition',
         'answer': 'self cell given', 'answers': 'self given', 'knots': 'self given'},
     ('lore', 'Lore'): {'learn': 'self clause', 'walk': 'self inputs', 'forget': 'self clause', 'clauses': 'self'},
+    ('codes', 'Code'): {'of': 'clauses'},
+    ('codes', 'Machine'): {'step': 'self', 'run': 'self'},
+    ('engine', 'Engine'): {
+        'ask': 'self cell', 'runs': 'self', 'lore': 'self cell', 'edit': 'self name value', 'clear': 'self name',
+        'edit_part': 'self place value', 'rewrite': 'self cell body', 'redefine': 'self definition', 'undo': 'self',
+        'forget': 'self', 'take_in': 'self cell clauses', 'trial': 'self', 'in_trial': 'self work'},
+    ('engine', 'Trial'): {'keep': 'self'},
 }
 
 
@@ -95,8 +117,17 @@ class InterfaceTest(unittest.TestCase):
         self.assertEqual(inspect.signature(module('trees').look_body).parameters['name'].default, '')
         self.assertIs(inspect.signature(module('boxes').Box.all_inputs).parameters['faults'].default, False)
         self.assertIsNone(inspect.signature(module('tables').table).parameters['region'].default)
-        for function in (module('tables').table, module('tables').uncovered, module('sameness').same):
-            self.assertEqual(inspect.signature(function).parameters['most'].default, 400)
+        for name, word in (('tables', 'table'), ('tables', 'uncovered'), ('sameness', 'same'), ('preimages', 'preimage'),
+                           ('wishes', 'wish'), ('rest', 'rest')):
+            self.assertEqual(inspect.signature(getattr(module(name), word)).parameters['most'].default, 400)
+        self.assertEqual(inspect.signature(module('composing').composed).parameters['most'].default, 4096)
+        self.assertEqual(inspect.signature(module('margins').margin).parameters['most'].default, 100)
+        sheet = module('sheets').Sheet(module('trees').Book(()), ('x',), ())
+        engine = module('engine').Engine(sheet, {'x': 1})
+        self.assertEqual((engine.sheet, engine.given, engine.depth, len(engine)), (sheet, {'x': 1}, 0, 0))
+        code = module('codes').Code.of(())
+        machine = module('codes').Machine(code, None)
+        self.assertEqual((code.rows, len(code), machine.at, machine.asked), ((('unknown',),), 1, 0, ()))
         shape = inspect.signature(module('values').Fault).parameters
         self.assertEqual((shape['rule'].default, shape['path'].default), ('', ()))
 

@@ -260,7 +260,8 @@ class ClassTest(unittest.TestCase):
         self.assertFalse(properties & (methods | fixed | attributes))
         self.assertFalse(fixed & (methods | attributes))
         self.assertFalse(methods & attributes)
-        self.assertFalse({*METHODS} & (methods | properties | fixed))
+        # The interface wants an engine to have a method `clear`.
+        self.assertEqual({*METHODS} & (methods | properties | fixed), {'clear'})
         for where, node in nodes(ast.Attribute):
             if isinstance(node.ctx, ast.Load):
                 known = methods | properties | fixed | attributes | {*METHODS}
