@@ -6,14 +6,14 @@ from runlore.courses import course_question, course_result, started_course, whol
 from runlore.equals import is_equal
 from runlore.errors import NoNote
 from runlore.known import nothing_known
-from runlore.loretrees import Node, clauses_below, tree_of
+from runlore.loretrees import clauses_below, tree_of
 from runlore.marginchecks import is_margin, pieces_told
 from runlore.margins import Line, moving_integer
 from runlore.questions import question_of
 from runlore.sameness import first_parting
-from runlore.tables import open_notes
+from runlore.tables import branches_of
 from runlore.terms import Built
-from runlore.termviews import take_note
+from runlore.termviews import ended_result, next_question, take_note, term_run
 from runlore.values import Fault, is_integer, is_name, is_value
 from runlore.watcher import clause_of, walked
 from runlore.wishchecks import holds_bars, is_met, is_moved
@@ -32,27 +32,31 @@ def holds_clause(sheet, cell, answer):
 
 def holds_table(sheet, cell, box, answer):
     """Whether it is the table of a cell's rule."""
-    if not isinstance(answer, tuple) or not all([holds_clause(sheet, cell, clause) for clause in answer]):
+    if not isinstance(answer, tuple) or not all([isinstance(clause, Clause) for clause in answer]):
         return False
     try:
         tree = tree_of(answer)
     except NoNote:
         return False
-    return clauses_below(tree) == list(answer) and is_whole(tree, box)
+    return clauses_below(tree) == list(answer) and is_whole(sheet, cell, box, tree)
 
 
-def is_whole(tree, box):
-    """Whether a tree has just those outcomes that inputs in the box have."""
-    todo = [(tree, nothing_known())]
+def is_whole(sheet, cell, box, tree):
+    """Whether a tree has just the clauses of all runs at inputs in the box."""
+    todo = [(tree, term_run(sheet, cell), nothing_known())]
     while todo:
-        one, limits = todo.pop()
-        if one is None:
-            return False
-        if isinstance(one, Node):
-            rows = open_notes(one.question, limits, box)
-            if len(rows) != len(one.edges):
+        one, run, limits = todo.pop()
+        question = next_question(run)
+        if isinstance(one, Clause):
+            if question is not None or not is_equal(clause_of(run.view, ended_result(run)), one):
                 return False
-            todo.extend([(one.edges.get(note[-1]), inner) for note, inner in rows])
+        elif one is None or one.question != question:
+            return False
+        else:
+            branches = branches_of(run, question, limits, box)
+            if len(branches) != len(one.edges):
+                return False
+            todo.extend([(one.edges.get(branch.view.notes[-1][-1]), branch, inner) for branch, inner in branches])
     return True
 
 

@@ -125,6 +125,8 @@ class Trial:
 
     def __enter__(self):
         engine = self.engine
+        # What was said before the block does not count.
+        self.kept = False
         self.sheet = engine.sheet
         self.desk = desk_copy(engine.desk)
         engine.depth = engine.depth + 1

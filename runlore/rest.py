@@ -61,11 +61,11 @@ def listed_items(own, first):
         elif isinstance(one.tree, Clause):
             items.append(('leaf', one.tree.result, one.held))
         else:
-            todo.extend(inside(own, one)[::-1])
+            todo.extend(what_is_inside(own, one)[::-1])
     return items
 
 
-def inside(own, branch):
+def what_is_inside(own, branch):
     """The items and branches of which a branch at a question consists."""
     question = branch.tree.question
     if question[0] == 'read':

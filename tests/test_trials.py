@@ -202,6 +202,25 @@ class TrialTest(unittest.TestCase):
                     raise Stop
         self.assertEqual(state(engine), before)
 
+    def test_keeping_before_or_behind_the_block(self):
+        engine = started()
+        before = state(engine)
+        trial = engine.trial()
+        trial.keep()
+        with trial:
+            engine.edit('x', 5)
+        trial.keep()
+        self.assertEqual(state(engine), before)
+
+    def test_keeping_the_outer_trial_inside_of_the_inner_one(self):
+        engine = started()
+        with engine.trial() as one:
+            engine.edit('x', 3)
+            with engine.trial():
+                engine.edit('y', 4)
+                one.keep()
+        self.assertEqual((engine.given, len(engine)), ({'x': 3, 'y': 5}, 2))
+
     def test_a_trial_that_is_not_entered(self):
         engine = started()
         engine.trial()
