@@ -37,8 +37,8 @@ def answer_of(sheet, desk, log, cell):
     asks = Asks(sheet, desk, log)
     for name in desk.answered:
         asks.facts[name] = desk.answered[name]
-    wanted = cell
-    while wanted is not None and cell not in asks.facts:
+    wanted = None if cell in asks.facts else cell
+    while wanted is not None:
         if wanted in asks.waiting:
             end_ring(asks, wanted)
         else:

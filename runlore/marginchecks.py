@@ -12,7 +12,7 @@ def pieces_told(line, number, rows):
         if not has_piece_form(row):
             return None
         piece = Piece(*row)
-        if not is_piece(line, number, piece) or not (not pieces or follows_on(pieces[-1], piece)):
+        if not is_piece(line, number, piece) or (pieces and not follows_on(pieces[-1], piece)):
             return None
         pieces.append(piece)
     return pieces
