@@ -115,28 +115,30 @@ class Trial:
 
     def __init__(self, engine):
         self.engine = engine
-        self.kept = False
+        self.depth = 0
         self.sheet = None
         self.desk = None
 
     def keep(self):
         """What was done in the block stays."""
-        self.kept = True
+        # Without a desk there is nothing to bring back.
+        self.desk = None
 
     def __enter__(self):
         engine = self.engine
-        # What was said before the block does not count.
-        self.kept = False
+        self.depth = engine.depth
         self.sheet = engine.sheet
         self.desk = desk_copy(engine.desk)
         engine.depth = engine.depth + 1
         return self
 
     def __exit__(self, kind, value, trace):
-        self.engine.depth -= 1
-        if not self.kept:
-            self.engine.sheet = self.sheet
-            self.engine.desk = self.desk
+        # The blocks inside were left before: those around this one stay.
+        self.engine.depth = self.depth
+        if self.desk is None:
+            return
+        self.engine.sheet = self.sheet
+        self.engine.desk = self.desk
 
 
 def cells_of(sheet):

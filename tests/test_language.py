@@ -5,6 +5,7 @@ import builtins
 import keyword
 import pathlib
 import re
+import textwrap
 import unittest
 
 PACKAGE = pathlib.Path(__file__).resolve().parent.parent / 'runlore'
@@ -288,6 +289,126 @@ class ClassTest(unittest.TestCase):
         if isinstance(node.func, ast.Attribute):
             return node.func.attr == 'join' and isinstance(node.func.value, ast.Constant)
         return node.func.id in ('str', 'repr')
+
+
+class LeavingTest(unittest.TestCase):
+    """What stands in `__exit__` and `finally`, in a package with arithmetic methods, `__eq__` and `__bool__`."""
+
+    def test_the_package(self):
+        found = []
+        for name, tree in TREES.items():
+            found.extend([f'{name}:{row}' for row in wrong_leaving_rows(tree)])
+        self.assertEqual(found, [])
+
+    def test_there_is_an_exit(self):
+        exits = [function.name for tree in TREES.values() for _, function in functions(tree)]
+        self.assertIn('__exit__', exits)
+
+    def test_rows_that_may_stand(self):
+        for rows in (
+                'pass', 'return', 'return None', 'return False', 'self.a = self.b.c', 'self.b.a = kind',
+                'self.a = (1, [self.b])', 'if self.a is None: return', 'if kind is not None: self.a = self.b',
+                'if not self.a is None or (kind is None and self.b.c is None): pass\nelse: self.a = 0'):
+            self.assertEqual(wrong_leaving_rows(exit_with(rows)), [], rows)
+        shut = 'def shut(self):\n    self.a = None'
+        self.assertEqual(wrong_leaving_rows(exit_with('self.shut()', shut)), [])
+        self.assertEqual(wrong_leaving_rows(finally_with('if k is not None: self.a, k = k, 0')), [])
+
+    def test_rows_that_may_not_stand(self):
+        for rows in (
+                'self.engine.depth -= 1', 'self.a += 1', 'self.a = self.a + 1', 'self.a = self.b - 1', 'self.a = -1',
+                'self.a = self.b[0]', 'self.a = self.told()', 'self.a[0] = 1', 'a = 1', 'return True', 'return 0',
+                'return self.a', 'raise', 'if self.a: pass', 'if not self.a: self.b = 1',
+                'if kind is None and self.a: pass', 'if self.a == 1: pass',
+                'if self.a is not None: pass', 'if self.a is False: pass', 'if value is None: pass', 'self.a = trace',
+                'if self.a is None: self.b -= 1', 'self.rows.append(1)', 'self.shut(1)', 'for a in self.a: pass'):
+            self.assertEqual(len(wrong_leaving_rows(exit_with(rows))), 1, rows)
+        for rows in ('self.b -= 1', 'if self.a: pass', 'if not self.a: self.b = 1', 'self.a = self.b + 1'):
+            shut = f'def shut(self):\n    {rows}'
+            self.assertEqual(len(wrong_leaving_rows(exit_with('self.shut()', shut))), 1, rows)
+            self.assertEqual(len(wrong_leaving_rows(finally_with(rows))), 1, rows)
+        self.assertEqual(len(wrong_leaving_rows(finally_with('return'))), 1)
+
+
+def exit_with(rows, more=''):
+    """A file with a class that has these rows in its `__exit__`, and perhaps one more method."""
+    rows = textwrap.indent(rows, '        ')
+    more = textwrap.indent(more, '    ')
+    return ast.parse(f'class C:\n    def __exit__(self, kind, value, trace):\n{rows}\n{more}\n')
+
+
+def finally_with(rows):
+    rows = textwrap.indent(rows, '        ')
+    return ast.parse(f'def f(self, k):\n    try:\n        pass\n    finally:\n{rows}\n')
+
+
+def wrong_leaving_rows(tree):
+    """The line numbers of the rows in `__exit__`, in what it calls, and in `finally` that may not stand there."""
+    wrong = []
+    for node in ast.walk(tree):
+        if isinstance(node, ast.Try):
+            for row in node.finalbody:
+                wrong.extend(wrong_lines(row, True, {}))
+        if isinstance(node, ast.ClassDef):
+            methods = {inner.name: inner for inner in node.body if isinstance(inner, ast.FunctionDef)}
+            for row in methods['__exit__'].body if '__exit__' in methods else []:
+                wrong.extend(wrong_lines(row, False, methods))
+    return wrong
+
+
+def wrong_lines(row, is_final, methods):
+    """The line numbers of what may not stand in a row of a `finally` or an `__exit__`."""
+    if isinstance(row, ast.If) and is_leaving_test(row.test, is_final):
+        return [line for inner in row.body + row.orelse for line in wrong_lines(inner, is_final, methods)]
+    if isinstance(row, ast.Return) and not is_final:
+        return [] if row.value is None or ast.unparse(row.value) in ('None', 'False') else [row.lineno]
+    if isinstance(row, ast.Expr) and isinstance(row.value, ast.Call):
+        return wrong_lines_of_call(row.value, methods)
+    if isinstance(row, ast.Assign) and len(row.targets) == 1:
+        return [] if is_target(row.targets[0], is_final) and is_simple(row.value, is_final) else [row.lineno]
+    return [] if isinstance(row, ast.Pass) else [row.lineno]
+
+
+def wrong_lines_of_call(call, methods):
+    """An `__exit__` may call a method of its own object that has such rows, too."""
+    func = call.func
+    fits = isinstance(func, ast.Attribute) and isinstance(func.value, ast.Name) and func.value.id == 'self'
+    if not fits or func.attr not in methods or call.args or call.keywords:
+        return [call.lineno]
+    others = {name: methods[name] for name in methods if name != func.attr}
+    return [line for row in methods[func.attr].body for line in wrong_lines(row, False, others)]
+
+
+def is_leaving_test(node, is_final):
+    """Whether a test asks only what is None."""
+    if isinstance(node, ast.BoolOp):
+        return all(is_leaving_test(one, is_final) for one in node.values)
+    if isinstance(node, ast.UnaryOp):
+        return isinstance(node.op, ast.Not) and is_leaving_test(node.operand, is_final)
+    if not isinstance(node, ast.Compare) or [ast.unparse(one) for one in node.comparators] != ['None']:
+        return False
+    is_kind = isinstance(node.left, ast.Name) and node.left.id == 'kind'
+    fits = isinstance(node.ops[0], ast.Is) or (isinstance(node.ops[0], ast.IsNot) and (is_kind or is_final))
+    return fits and is_simple(node.left, is_final) and not isinstance(node.left, (ast.Constant, ast.List, ast.Tuple))
+
+
+def is_target(node, is_final):
+    if isinstance(node, ast.Tuple) and is_final:
+        return all(is_target(one, is_final) for one in node.elts)
+    if isinstance(node, ast.Name):
+        return is_final
+    return isinstance(node, ast.Attribute) and is_simple(node, is_final)
+
+
+def is_simple(node, is_final):
+    """Whether it is a name, an attribute, a literal, or a list or tuple of such; `__exit__` reads no error."""
+    if isinstance(node, ast.Name):
+        return is_final or node.id not in ('value', 'trace', 'told')
+    if isinstance(node, ast.Attribute):
+        return is_simple(node.value, is_final)
+    if isinstance(node, (ast.List, ast.Tuple)):
+        return all(is_simple(one, is_final) for one in node.elts)
+    return isinstance(node, ast.Constant)
 
 
 class PureTest(unittest.TestCase):

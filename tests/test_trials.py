@@ -221,6 +221,62 @@ class TrialTest(unittest.TestCase):
                 one.keep()
         self.assertEqual((engine.given, len(engine)), ({'x': 3, 'y': 5}, 2))
 
+    def test_what_is_done_behind_keeping_stays(self):
+        engine = started()
+        with engine.trial() as one:
+            one.keep()
+            engine.edit('x', 3)
+            with engine.trial():
+                engine.edit('x', 4)
+            self.assertEqual((engine.given['x'], engine.depth), (3, 1))
+            one.keep()
+            engine.edit('y', 6)
+            self.assertEqual(engine.ask('a'), 4)
+        runs = len(engine.runs())
+        self.assertEqual((engine.given, len(engine), engine.depth), ({'x': 3, 'y': 6}, 3, 0))
+        self.assertEqual((engine.ask('a'), len(engine.runs())), (4, runs))
+
+    def test_depth(self):
+        engine = started()
+        for keeps in (False, True):
+            for error in (None, Stop):
+                for depth in range(5):
+                    self.assertEqual(self.depths(engine, depth, keeps, error), list(range(1, depth + 1)))
+                    self.assertEqual(engine.depth, 0)
+
+    def depths(self, engine, many, keeps, error):
+        """The depths inside of so many trials, which are left by the error if there is one."""
+        found = []
+
+        def enter():
+            if len(found) < many:
+                with engine.trial() as trial:
+                    depth = engine.depth
+                    found.append(depth)
+                    if keeps:
+                        trial.keep()
+                    enter()
+                    self.assertEqual(engine.depth, depth)
+            elif error is not None:
+                raise error
+
+        if error is None:
+            enter()
+        else:
+            self.assertRaises(error, enter)
+        return found
+
+    def test_depth_between_trials(self):
+        engine = started()
+        with engine.trial():
+            for keeps in (True, False, True):
+                with engine.trial() as trial:
+                    self.assertEqual(engine.depth, 2)
+                    if keeps:
+                        trial.keep()
+                self.assertEqual(engine.depth, 1)
+        self.assertEqual(engine.depth, 0)
+
     def test_a_trial_that_is_not_entered(self):
         engine = started()
         engine.trial()
